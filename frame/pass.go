@@ -2,7 +2,6 @@ package frame
 
 import (
 	"underpaint/api"
-	"underpaint/image"
 	"underpaint/light"
 )
 
@@ -107,17 +106,4 @@ func sizeOf(f api.Frame, p api.Pass, from []api.Size) (size api.Size, fits bool)
 		return from[0], from[0] == from[1]
 	}
 	return from[0], true
-}
-
-// paint makes the image of a pass out of others.
-func paint(f api.Frame, p api.Pass, from []api.Image) (api.Image, api.Errno) {
-	switch p.Op {
-	case api.Fill, api.Ramp:
-		return image.Make(p.Op, f.W, f.H, p.K)
-	case api.Add, api.Sub, api.Mul, api.Most:
-		return image.Two(p.Op, from[0], from[1])
-	case api.Lit:
-		return light.Lit(from[0], p.Lights, p.K)
-	}
-	return image.One(p.Op, from[0], p.K)
 }
