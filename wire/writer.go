@@ -23,7 +23,7 @@ func appendFrame(b []byte, f api.Frame) []byte {
 	return b
 }
 
-// appendNumber puts that many of the number's bytes behind b, the highest first; of one below 0 they are those of it and 2^24, if there are three, as the shift keeps the sign.
+// appendNumber puts the lowest bytes of a number, that many, behind b, the highest first. The shift keeps the sign, so of one below 0 they are those of it and 2^24, as K needs them.
 func appendNumber(b []byte, n, many int) []byte {
 	for i := many - 1; i >= 0; i-- {
 		b = append(b, byte(n>>(8*i)))
